@@ -1,0 +1,1 @@
+"""Wirings that no part can tell from one another."""
