@@ -1,6 +1,6 @@
 """Wirings: named parts of two ends each, joined at nodes."""
 
-from sameloops.errors import NoNode, NoPart
+from sameloops.errors import NoNode, NoPart, OtherParts
 
 LETTERS = "abcdefghijklmnopqrstuvwxyz"
 SIGNS = "abcdefghijklmnopqrstuvwxyz0123456789."
@@ -109,18 +109,18 @@ def steps_at(wiring):
     return steps
 
 
-def rows_from(wiring, origin):
-    """For each node that is connected with origin a row of parts from there to it.
+def rows_from(wiring, origin, barred=()):
+    """For each node that can be reached from origin a row of as few parts as can be from there to it.
 
-    A row is the tuple of its pairs (part, way), in the order in which they are gone.
+    A row is the tuple of its pairs (part, way), in the order in which they are gone; those barred are not.
     """
     steps = steps_at(wiring)
     rows = {origin: ()}
     waiting = [origin]
     while waiting:
-        here = waiting.pop()
+        here = waiting.pop(0)
         for part, way, there in steps.get(here, []):
-            if there not in rows:
+            if there not in rows and (part, way) not in barred:
                 rows[there] = rows[here] + ((part, way),)
                 waiting.append(there)
     return rows
@@ -155,6 +155,13 @@ def check_nodes(wiring, names):
     for name in names:
         if name not in known:
             raise NoNode(name)
+
+
+def check_same_parts(one, other):
+    """Raise OtherParts for the least part that only one of the two WIRINGs has."""
+    unlike = sorted(set(parts(one)) ^ set(parts(other)))
+    if unlike:
+        raise OtherParts(unlike[0])
 
 
 def renamed(wiring, least):

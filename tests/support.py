@@ -1,6 +1,6 @@
 """Wirings for the tests, and slow answers that follow the words of the document one by one."""
 
-from itertools import product
+from itertools import combinations, product
 
 HOUSE = (("a", "n", "m"), ("b", "m", "k"), ("c", "k", "n"), ("d", "m", "m"), ("e", "k", "x"), ("f", "n", "k"))
 SQUARE = (("a", "p", "q"), ("b", "q", "r"), ("c", "p", "r"), ("d", "p", "r"))
@@ -13,6 +13,20 @@ POINTED = (("a.1", "k.", "k.x"), ("a.10", "k.x", "k"), ("a.2", "k", "k."), ("a1"
 SIDE_BY_SIDE = tuple([(name, "u", "v") for name in "abcd"])
 ROUND = tuple([(name, name + "0", other + "0") for name, other in zip("abcdefg", "bcdefga")])
 FIVE = tuple([(one + other, one, other) for one in "klmno" for other in "klmno" if one < other])
+# The wirings that stand in section 5, and one that is drawn like SQUARE with its pair turned.
+ONE = (("a", "k", "l"), ("b", "l", "m"), ("c", "m", "n"), ("d", "n", "k"), ("e", "l", "m"))
+OTHER = (("a", "k", "l"), ("b", "m", "n"), ("c", "l", "m"), ("d", "n", "k"), ("e", "m", "n"))
+THIRD = (("a", "k", "l"), ("b", "m", "n"), ("c", "l", "m"), ("d", "n", "k"), ("e", "l", "m"))
+TURNED_SQUARE = (("a", "x", "y"), ("b", "z", "x"), ("c", "z", "y"), ("d", "z", "y"))
+LOOP = (("a", "n", "m"), ("b", "m", "k"), ("c", "k", "n"))
+# A gate with a pair and a row in the place of d, and a row with a pair in the place of f.
+NESTED = (("a", "p", "q"), ("b", "p", "r"), ("c", "q", "r"), ("d1", "q", "s"), ("d2", "q", "v"), ("d3", "s", "v"),
+          ("e", "r", "s"), ("f1", "p", "t"), ("f2", "t", "u"), ("f3", "u", "t"), ("f4", "s", "u"))
+# A gate in the place of a part of a gate.
+GATES = (("a", "p", "q"), ("b", "p", "r"), ("c", "q", "r"), ("d", "q", "s"), ("e", "r", "s"),
+         ("f", "p", "t"), ("g", "p", "u"), ("h", "t", "u"), ("i", "t", "s"), ("j", "u", "s"))
+WHEEL = (("a", "h", "k"), ("b", "h", "l"), ("c", "m", "h"), ("d", "h", "n"), ("e", "k", "l"), ("f", "l", "m"),
+         ("g", "n", "m"), ("i", "n", "k"))
 WIRINGS = ((), HOUSE, SQUARE, GATE, LOOSE, GROUPS, EIGHT, SAME_NAMES, POINTED, SIDE_BY_SIDE, ROUND,
            (("a", "k", "k"),), (("a", "k", "k"), ("b", "k", "k")), (("a", "k", "l"),))
 
@@ -81,6 +95,33 @@ def slow_cuts(wiring):
         height = dict(zip(names, chosen))
         rows.append(tuple([height[start] - height[end] for _, start, end in wiring]))
     return least_rows(wiring, rows)
+
+
+def plain(wiring):
+    """The wiring with 0, 1, .. as its nodes, in the order in which the parts name them."""
+    names = {}
+    return tuple([(part, names.setdefault(start, len(names)), names.setdefault(end, len(names)))
+                  for part, start, end in wiring])
+
+
+def subsets(names):
+    """All sets of names."""
+    return [chosen for many in range(len(names) + 1) for chosen in combinations(names, many)]
+
+
+def families(many):
+    """All wirings of so many parts, those with the same RINGs together."""
+    found = {}
+    for wiring in all_wirings(many):
+        found.setdefault(tuple(slow_rings(wiring)), []).append(wiring)
+    return list(found.values())
+
+
+def deep(thing):
+    """The thing in eleven tuples, one in another."""
+    for _ in range(11):
+        thing = (thing,)
+    return thing
 
 
 def listed(thing):

@@ -4,10 +4,15 @@ import copy
 import inspect
 import unittest
 
+from sameloops import alike as alike_file
+from sameloops import forms as forms_file
 from sameloops import rings as rings_file
+from sameloops import settle as settle_file
+from sameloops import turns as turns_file
 from sameloops import wirings as wirings_file
 from sameloops.rings import Stream
-from tests.support import EIGHT, GROUPS, HOUSE, SQUARE, holds_list, listed
+from tests.support import (EIGHT, GATE, GROUPS, HOUSE, LOOP, NESTED, ONE, OTHER, SQUARE, THIRD, TURNED_SQUARE,
+                           holds_list, listed)
 
 STREAM = (3, 3, 1, 5, 0, -2)
 DROPS = (4, -1, -3, 0, 2, 3)
@@ -43,8 +48,81 @@ RINGS = {
     "is_drops": (("wiring", "thing"), [(HOUSE, STREAM), (HOUSE, DROPS)], bool),
     "heights": (("wiring", "drops"), [(HOUSE, DROPS), (GROUPS, (0,) * 5)], tuple),
 }
-ROWS = [(wirings_file, name, *row) for name, row in WIRINGS.items()]
-ROWS += [(rings_file, name, *row) for name, row in RINGS.items()]
+BOTH = ("one", "other")
+KNOWN = ("wiring", "what", "known")
+AMOUNTS = (*KNOWN, "amounts")
+PAIR = ("b", "along"), ("e", "against")
+ALIKE = {
+    "alike": (BOTH, [(ONE, OTHER), (ONE, THIRD), ((), ())], bool),
+    "unlike": (BOTH, [(ONE, THIRD), (THIRD, OTHER)], tuple),
+    "is_unlike": ((*BOTH, "thing"), [(ONE, THIRD, (0, PAIR)), (ONE, OTHER, (0, PAIR))], bool),
+    "least_unlike": (BOTH, [(ONE, THIRD), (THIRD, OTHER)], tuple),
+    "unlike_cut": (BOTH, [(ONE, THIRD), (THIRD, OTHER)], tuple),
+    "is_unlike_cut": ((*BOTH, "thing"), [(ONE, THIRD, (0, (("a", "along"), ("c", "against")))), (ONE, OTHER, 5)], bool),
+    "test_of": (("wiring", "ring"), [(ONE, PAIR), (HOUSE, RING)], tuple),
+    "grouped": (("wirings",), [((ONE, THIRD, OTHER, HOUSE),), ((),)], tuple),
+    "alike_without": (BOTH, [(ONE, THIRD), (ONE, OTHER)], tuple),
+    "alike_if_bridged": (BOTH, [(ONE, THIRD), (ONE, OTHER)], tuple),
+}
+TURNS = {
+    "classes_at": (("wiring", "node", "other"), [(SQUARE, "p", "r"), (EIGHT, "k", "o")], list),
+    "doors": (("wiring", "piece"), [(SQUARE, ("a", "b")), (NESTED, ("d2", "d3"))], tuple),
+    "is_piece": (("wiring", "thing"), [(SQUARE, ("a", "b")), (SQUARE, ("b", "c"))], bool),
+    "turned": (("wiring", "piece"), [(SQUARE, ("a", "b")), (NESTED, ("f1", "f2", "f3"))], tuple),
+    "turned_all": (("wiring", "pieces"), [(SQUARE, (("a", "b"), ("c", "d"))), (SQUARE, ())], tuple),
+    "drawn_alike": (BOTH, [(SQUARE, TURNED_SQUARE), (SQUARE, SQUARE)], bool),
+    "turns_to": (BOTH, [(SQUARE, TURNED_SQUARE), (ONE, OTHER), (GATE, GATE)], tuple),
+    "are_turns": ((*BOTH, "thing"), [(SQUARE, TURNED_SQUARE, (("a", "b"),)), (SQUARE, TURNED_SQUARE, ())], bool),
+}
+FORMS = {
+    "rank_of": (("wiring", "names"), [(SQUARE, ("a", "c", "d")), (SQUARE, ())], int),
+    "strong": (("wiring", "part"), [(NESTED, "f4"), (HOUSE, "d")], list),
+    "cells_of": (("wiring", "part"), [(NESTED, "f4"), (HOUSE, "d")], list),
+    "chain_mates": (("wiring", "part"), [(EIGHT, "d"), (HOUSE, "e")], tuple),
+    "bundle_mates": (("wiring", "part"), [(SQUARE, "d"), (HOUSE, "d")], tuple),
+    "drawings": (("wiring", "part"), [(NESTED, "f4"), (HOUSE, "d")], int),
+    "how_many": (("wiring",), [(HOUSE,), ((),)], int),
+    "form": (("wiring",), [(NESTED,), (HOUSE,), ((),)], tuple),
+    "drawing": (("wiring", "part", "number"), [(NESTED, "f4", 17), (HOUSE, "d", 0)], tuple),
+    "number_of": (("wiring", "part"), [(NESTED, "f4"), (HOUSE, "d")], int),
+}
+SETTLE = {
+    "settled": (KNOWN, [(HOUSE, "current", ("a",)), (HOUSE, "voltage", ("a", "b"))], tuple),
+    "settles_all": (KNOWN, [(HOUSE, "current", ("a", "c", "d")), (HOUSE, "voltage", ())], bool),
+    "always_zero": (("wiring", "what"), [(HOUSE, "current"), (HOUSE, "voltage")], tuple),
+    "sum_for": ((*KNOWN, "part"), [(HOUSE, "current", ("a", "c"), "f"), (HOUSE, "voltage", ("a", "b"), "c"),
+                                   (HOUSE, "voltage", ("a", "b"), "b"), (HOUSE, "current", (), "e")], tuple),
+    "is_sum": (("wiring", "what", "part", "thing"), [(HOUSE, "current", "f", (("a", -1), ("c", 1))),
+                                                     (HOUSE, "voltage", "f", ())], bool),
+    "unsettled": ((*KNOWN, "part"), [(HOUSE, "current", ("a",), "f"), (HOUSE, "voltage", ("a",), "b")], tuple),
+    "equal": (("wiring", "what", "part", "other"), [(HOUSE, "current", "a", "b"), (HOUSE, "voltage", "c", "f")], int),
+    "mates": (("wiring", "what"), [(HOUSE, "current"), (LOOP, "voltage")], list),
+    "least_meters": (("wiring", "what"), [(HOUSE, "current"), (LOOP, "voltage")], int),
+    "meter_sets": (("wiring", "what"), [(HOUSE, "current"), (LOOP, "voltage")], list),
+    "many_meter_sets": (("wiring",), [(HOUSE,), ((),)], int),
+    "cheapest_meters": (("wiring", "what", "prices"), [(HOUSE, "current", (5, 1, 2, 9, 7, 4)),
+                                                       (LOOP, "voltage", (0, 0, -1))], tuple),
+    "spare": (KNOWN, [(LOOP, "current", ("a", "b")), (LOOP, "voltage", ())], int),
+    "blinding": (KNOWN, [(LOOP, "current", ("a", "b")), (LOOP, "voltage", ("a", "b", "c")), (LOOP, "voltage", ())],
+                 tuple),
+    "possible": (AMOUNTS, [(HOUSE, "current", ("a", "b"), (3, 4)), (LOOP, "voltage", ("a",), (3,))], bool),
+    "completed": (AMOUNTS, [(HOUSE, "current", ("a", "d"), (3, 4)), (LOOP, "voltage", ("a", "b"), (2, 5))], tuple),
+    "contradiction": (AMOUNTS, [(HOUSE, "current", ("a", "b"), (3, 4)), (LOOP, "voltage", ("a", "b", "c"), (1, 1, 1))],
+                      tuple),
+    "suspects": (AMOUNTS, [(HOUSE, "current", ("a", "b"), (3, 4)), (LOOP, "voltage", ("a", "b"), (1, 1))], tuple),
+    "shows_one_wrong": (KNOWN, [(LOOP, "current", ("a", "b")), (LOOP, "voltage", ("a",))], bool),
+    "names_one_wrong": (KNOWN, [(LOOP, "current", ("a", "b", "c")), (LOOP, "voltage", ("a",))], bool),
+}
+# Those that return None for these arguments.
+NONE = (("unlike", (ONE, OTHER)), ("unlike_cut", (ONE, OTHER)), ("least_unlike", (ONE, OTHER)),
+        ("turns_to", (ONE, THIRD)), ("sum_for", (HOUSE, "current", ("a",), "f")),
+        ("unsettled", (HOUSE, "voltage", (), "d")),
+        ("equal", (HOUSE, "current", "c", "f")), ("spare", (HOUSE[3:4], "voltage", ("d",))),
+        ("blinding", (HOUSE[4:5], "current", ())), ("completed", (HOUSE, "current", ("a", "b"), (3, 4))),
+        ("contradiction", (HOUSE, "current", ("a", "b"), (3, 3))))
+ROWS = [(file, name, *row) for file, table in ((wirings_file, WIRINGS), (rings_file, RINGS), (alike_file, ALIKE),
+                                               (turns_file, TURNS), (forms_file, FORMS), (settle_file, SETTLE))
+        for name, row in table.items()]
 METHODS = {"amounts": (), "at": ("part",), "split": (), "__init__": ("wiring", "amounts"), "__add__": None,
            "__sub__": None, "__neg__": (), "__mul__": None, "__len__": (), "__eq__": None}
 CALLS = [(getattr(file, name), words, arguments, kind) for file, name, words, rows, kind in ROWS for arguments in rows]
@@ -56,8 +134,8 @@ def told_lists(told):
 
 
 def with_lists(words, arguments):
-    """The arguments with lists for tuples, but for a thing, which is taken as it is."""
-    return [value if word == "thing" else listed(value) for word, value in zip(words, arguments)]
+    """The arguments with lists for tuples, but for any thing (such is the ring of test_of), taken as it is."""
+    return [value if word in ("thing", "ring") else listed(value) for word, value in zip(words, arguments)]
 
 
 class CallsTest(unittest.TestCase):
@@ -115,6 +193,24 @@ class CallsTest(unittest.TestCase):
         for call, thing in ((rings_file.is_ring, RING), (rings_file.is_cut, CUT), (rings_file.is_stream, STREAM),
                             (rings_file.is_drops, DROPS)):
             self.assertEqual((call(listed(HOUSE), thing), call(listed(HOUSE), listed(thing))), (True, False))
+
+    def test_sets_and_pairs_that_are_lists_stay_lists(self):
+        lists = listed(ONE), listed(THIRD)
+        self.assertEqual((alike_file.is_unlike(*lists, (0, PAIR)), alike_file.is_unlike(*lists, (0, list(PAIR)))),
+                         (True, False))
+        self.assertEqual((turns_file.is_piece(listed(SQUARE), ("a", "b")),
+                          turns_file.is_piece(listed(SQUARE), ["a", "b"])),
+                         (True, False))
+        self.assertEqual((settle_file.is_sum(listed(HOUSE), "current", "e", ()),
+                          settle_file.is_sum(listed(HOUSE), "current", "e", [])), (True, False))
+
+    def test_none(self):
+        for name, arguments in NONE:
+            call, words = [(getattr(file, name), words) for file, found, words, _, _ in ROWS if found == name][0]
+            with self.subTest(name):
+                self.assertIsNone(call(*arguments))
+                self.assertIsNone(call(*with_lists(words, arguments)))
+                self.assertIsNone(call(**dict(zip(words, arguments))))
 
     def test_stream_methods_by_name(self):
         self.assertEqual(Stream(wiring=HOUSE, amounts=STREAM).at(part="f"), -2)
