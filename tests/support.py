@@ -25,6 +25,8 @@ NESTED = (("a", "p", "q"), ("b", "p", "r"), ("c", "q", "r"), ("d1", "q", "s"), (
 # A gate in the place of a part of a gate.
 GATES = (("a", "p", "q"), ("b", "p", "r"), ("c", "q", "r"), ("d", "q", "s"), ("e", "r", "s"),
          ("f", "p", "t"), ("g", "p", "u"), ("h", "t", "u"), ("i", "t", "s"), ("j", "u", "s"))
+# A gate with a row of two parts in the place of f.
+ROW_IN_GATE = GATE[:5] + (("f", "p", "t"), ("g", "s", "t"))
 WHEEL = (("a", "h", "k"), ("b", "h", "l"), ("c", "m", "h"), ("d", "h", "n"), ("e", "k", "l"), ("f", "l", "m"),
          ("g", "n", "m"), ("i", "n", "k"))
 WIRINGS = ((), HOUSE, SQUARE, GATE, LOOSE, GROUPS, EIGHT, SAME_NAMES, POINTED, SIDE_BY_SIDE, ROUND,
@@ -115,6 +117,15 @@ def families(many):
     for wiring in all_wirings(many):
         found.setdefault(tuple(slow_rings(wiring)), []).append(wiring)
     return list(found.values())
+
+
+def scattered(many, among, seed):
+    """A wiring of so many parts whose nodes, so many at most, are scattered without an order."""
+    numbers = [seed]
+    while len(numbers) <= 2 * many:
+        numbers.append((numbers[-1] * 1103515245 + 12345) % 2 ** 31)
+    nodes = ["k" + str((number >> 16) % among) for number in numbers[1:]]
+    return tuple([("p" + str(at).zfill(2), nodes[2 * at], nodes[2 * at + 1]) for at in range(many)])
 
 
 def deep(thing):

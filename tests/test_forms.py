@@ -2,7 +2,7 @@
 
 import unittest
 from functools import lru_cache
-from itertools import combinations
+from itertools import combinations, permutations
 from math import factorial
 
 from sameloops.alike import alike
@@ -13,11 +13,12 @@ from sameloops.rings import cuts, is_ring, rings
 from sameloops.turns import drawn_alike, is_piece, turned, turned_all, turns_to
 from sameloops.wirings import blocks, is_wiring, nodes, opened, parts, rank, reversed_parts
 from tests.support import (EIGHT, FIVE, GATE, GATES, GROUPS, HOUSE, LOOP, LOOSE, NESTED, ONE, OTHER, POINTED, ROUND,
-                           SAME_NAMES, SIDE_BY_SIDE, SQUARE, THIRD, TURNED_SQUARE, WHEEL, WIRINGS, plain, slow_cuts,
+                           ROW_IN_GATE, SAME_NAMES, SIDE_BY_SIDE, SQUARE, THIRD, TURNED_SQUARE, WHEEL, WIRINGS, plain,
+                           scattered, slow_cuts,
                            slow_rings, subsets)
 
 PAIR = (("a", "k", "l"), ("b", "l", "k"))
-ALL = WIRINGS + (ONE, OTHER, THIRD, LOOP, PAIR, WHEEL, NESTED, GATES)
+ALL = WIRINGS + (ONE, OTHER, THIRD, LOOP, PAIR, WHEEL, NESTED, GATES, ROW_IN_GATE)
 ROW14 = tuple([(sign, "n" + sign, "n" + after) for sign, after in zip("abcdefghijklmn", "bcdefghijklmna")])
 # Three pieces in a ring, each a row of two parts beside one part.
 LADDER = (("a", "k", "l"), ("b", "l", "m"), ("c", "m", "k"), ("d", "m", "n"), ("e", "n", "o"), ("f", "o", "m"),
@@ -279,6 +280,26 @@ class DrawingsTest(unittest.TestCase):
             self.assertEqual(len(met), drawings(wiring, "a"))
             self.assertEqual(sorted([number_of(one, "a") for one in met.values()]), list(range(len(met))))
             self.assertEqual({form(one) for one in met.values()}, {form(wiring)})
+
+    def test_rigid_ones_with_all_names(self):
+        for names in list(permutations("abcdef"))[::7]:
+            wiring = tuple(sorted([(name, *ends) for name, (_, *ends) in zip(names, GATE)]))
+            about = reversed_parts(wiring, parts(wiring))
+            self.assertEqual(sorted([number_of(wiring, "a"), number_of(about, "a")]), [0, 1])
+            self.assertEqual([drawing(about, "a", 0), drawing(about, "a", 1)],
+                             [drawing(wiring, "a", 0), drawing(wiring, "a", 1)])
+
+    def test_scattered_ones(self):
+        for seed in range(60):
+            wiring = scattered(8 + seed % 7, 3 + seed % 5, seed)
+            self.assertTrue(alike(form(wiring), wiring))
+            for block in blocks(wiring):
+                many = drawings(wiring, block[0])
+                for number in {0, many // 3, many // 2, many - 1}:
+                    one = drawing(wiring, block[0], number)
+                    self.assertEqual((number_of(one, block[0]), cells_of(one, block[0])),
+                                     (number, cells_of(wiring, block[0])))
+                    self.assertTrue(alike(one, [item for item in wiring if item[0] in block]))
 
     def test_large_numbers(self):
         last = factorial(13) - 1

@@ -3,11 +3,13 @@
 import unittest
 from itertools import combinations, product
 
+from sameloops.errors import NoPart
 from sameloops.settle import (blinding, cheapest_meters, least_meters, many_meter_sets, meter_sets, settled,
                               settles_all, spare)
-from sameloops.wirings import parts, rank
+from sameloops.sums import fewest_between, with_row
+from sameloops.wirings import nodes, parts, rank
 from tests.support import (EIGHT, FIVE, GATE, GROUPS, HOUSE, LOOP, LOOSE, NESTED, ROUND, SIDE_BY_SIDE, SQUARE, WHEEL,
-                           WIRINGS)
+                           WIRINGS, scattered, subsets)
 
 KINDS = ("current", "voltage")
 NAMES = ["p" + str(number).zfill(2) for number in range(60)]
@@ -205,6 +207,34 @@ class SpareTest(unittest.TestCase):
         row = drawn([(at, (at + 1) % 24) for at in range(24)])
         self.check(row, "current", parts(row), 23)
         self.check(row, "voltage", parts(row), 1)
+
+    def test_scattered_ones(self):
+        for seed in range(40):
+            wiring = scattered(24, 4 + seed % 6, seed)
+            for known in (parts(wiring), parts(wiring)[2:], parts(wiring)[::2] + parts(wiring)[21::2]):
+                known = tuple(sorted(set(known)))
+                # A cut has as many of known as lead out of some half of the nodes.
+                many = min([len([part for part, start, end in wiring if part in known
+                                 and (start in half) != (end in half)])
+                            for half in subsets(nodes(wiring))
+                            if any((start in half) != (end in half) for _, start, end in wiring)])
+                self.check(wiring, "voltage", known, many - 1)
+
+    def test_a_part_that_two_rows_need_in_opposite_ways(self):
+        ends = ("pr", "qm", "ur", "qu", "mp", "mn", "pm", "rq", "mu", "rp", "nu", "rr", "qr", "rp")
+        wiring = tuple([(name, *pair) for name, pair in zip("abcdefghijklmn", ends)])
+        self.check(wiring, "voltage", parts(wiring), 1)
+        self.assertEqual([len(fewest_between(wiring, *pair)[0]) for pair in ("pu", "up", "nu", "qm", "rn")], [4, 4, 2, 4, 2])
+        self.assertEqual(with_row([("a", "along"), ("b", "along")], (("c", "against"), ("b", "against"), ("d", "along"))),
+                         [("a", "along"), ("c", "against"), ("d", "along")])
+
+    def test_no_part(self):
+        for wiring, what in ((LOOSE, "current"), ((), "current"), ((), "voltage"), (SIDE_BY_SIDE, "voltage"),
+                             ((("d", "k", "k"),), "voltage")):
+            for call in (spare, blinding):
+                with self.subTest(call.__name__), self.assertRaises(NoPart) as caught:
+                    call(wiring, what, ("z",))
+                self.assertEqual(caught.exception.part, "z")
 
     def test_what_is_returned_goes_in_again(self):
         for names in meter_sets(WHEEL, "current"):

@@ -7,9 +7,9 @@ from sameloops.rings import heights, is_cut, is_drops, is_ring, is_stream
 from sameloops.settle import (always_zero, blinding, completed, contradiction, equal, is_sum, mates, names_one_wrong,
                               possible, settled, settles_all, shows_one_wrong, spare, sum_for, suspects, unsettled)
 from sameloops.turns import turned
-from sameloops.wirings import parts, reversed_parts
+from sameloops.wirings import nodes, parts, reversed_parts
 from tests.support import (EIGHT, FIVE, GATE, GROUPS, HOUSE, LOOP, LOOSE, NESTED, ONE, OTHER, ROUND, SIDE_BY_SIDE,
-                           SQUARE, WHEEL, WIRINGS, deep, listed, subsets)
+                           SQUARE, WHEEL, WIRINGS, deep, listed, scattered, subsets)
 
 KINDS = ("current", "voltage")
 LARGE = 10 ** 40
@@ -153,6 +153,19 @@ class SumsTest(unittest.TestCase):
         told = sum_for(MANY, "current", known, "kl")
         self.assertIs(is_sum(MANY, "current", "kl", told), True)
         self.assertEqual(len(told), min([len([part for part in known if node in part]) for node in "kl"]))
+
+    def test_scattered_ones(self):
+        for seed in range(40):
+            wiring = scattered(24, 5 + seed % 5, seed)
+            known, part = parts(wiring)[5:], parts(wiring)[seed % 4]
+            _, start, end = wiring[seed % 4]
+            # The part itself and the fewest of known lead out of a half of the nodes, and no other unknown part.
+            leaving = [[name for name, tail, head in wiring if name != part and (tail in half) != (head in half)]
+                       for half in subsets(nodes(wiring)) if start in half and end not in half]
+            sizes = [len(names) for names in leaving if set(names) <= set(known)]
+            told = sum_for(wiring, "current", known, part)
+            self.assertEqual(None if told is None else len(told), min(sizes, default=None))
+            self.assertTrue(told is None or is_sum(wiring, "current", part, told))
 
     def test_unsettled(self):
         for wiring, what, known, part in ((GATE, "current", ("a", "c"), "f"), (GATE, "voltage", ("a", "c"), "f"),

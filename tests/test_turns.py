@@ -6,10 +6,11 @@ from sameloops.errors import NoNode, NoPart, NoPiece, OtherParts
 from sameloops.rings import cuts, rings
 from sameloops.turns import (are_turns, classes_at, doors, drawn_alike, is_piece, turned, turned_all, turns_to)
 from sameloops.wirings import blocks, nodes, parts, reversed_parts, same_drawing
-from tests.support import (EIGHT, GATE, GATES, GROUPS, HOUSE, LOOP, LOOSE, NESTED, ONE, OTHER, ROUND, SIDE_BY_SIDE,
-                           SQUARE, THIRD, TURNED_SQUARE, WHEEL, WIRINGS, deep, listed, plain, slow_rings, subsets)
+from tests.support import (EIGHT, GATE, GATES, GROUPS, HOUSE, LOOP, LOOSE, NESTED, ONE, OTHER, ROUND, ROW_IN_GATE,
+                           SIDE_BY_SIDE, SQUARE, THIRD, TURNED_SQUARE, WHEEL, WIRINGS, deep, listed, plain, scattered,
+                           slow_rings, subsets)
 
-ALL = WIRINGS + (ONE, OTHER, THIRD, TURNED_SQUARE, NESTED[:8])
+ALL = WIRINGS + (ONE, OTHER, THIRD, TURNED_SQUARE, NESTED[:8], ROW_IN_GATE)
 
 
 def slow_classes(wiring, block, node, other):
@@ -265,6 +266,18 @@ class TurnsToTest(unittest.TestCase):
         self.check(pairs, others)
         self.check(NESTED, turned_all(NESTED, (("d1", "d2", "d3"), ("f1", "f2", "f3"), ("f1", "f4"),
                                                ("f2", "f3", "f4"))))
+
+    def test_scattered_ones(self):
+        for seed in range(60):
+            wiring = scattered(8 + seed % 7, 3 + seed % 5, seed)
+            other = reversed_parts(wiring, parts(wiring))
+            for block in blocks(wiring):
+                ends = nodes([item for item in wiring if item[0] in block])
+                for node, there in zip(ends, ends[1:]):
+                    found = classes_at(other, node, there)
+                    if len(found) > 1:
+                        other = turned(other, tuple(sorted(found[0] + found[-1])) if len(found) > 2 else found[0])
+            self.check(wiring, other)
 
     def test_unlike_ones(self):
         for one, other in ((SQUARE, reversed_parts(SQUARE, ("b",))), (ONE, THIRD), (LOOP, LOOSE),
