@@ -20,7 +20,7 @@ def cut_table(wiring):
 def differences(one, other, listing, belongs):
     """The pairs (number, thing) of what listing tells of the WIRING of this number, 0 or 1, and only of it.
 
-    Tables of rings or cuts are enough to find one: what is in none of them follows from what is in them.
+    The tables of rings or of cuts are enough to find one: if both have all of both tables, they are alike.
     """
     pairs = [(0, thing) for thing in listing(one) if not belongs(other, thing)]
     return pairs + [(1, thing) for thing in listing(other) if not belongs(one, thing)]

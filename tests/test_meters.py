@@ -224,9 +224,10 @@ class SpareTest(unittest.TestCase):
         ends = ("pr", "qm", "ur", "qu", "mp", "mn", "pm", "rq", "mu", "rp", "nu", "rr", "qr", "rp")
         wiring = tuple([(name, *pair) for name, pair in zip("abcdefghijklmn", ends)])
         self.check(wiring, "voltage", parts(wiring), 1)
-        self.assertEqual([len(fewest_between(wiring, *pair)[0]) for pair in ("pu", "up", "nu", "qm", "rn")], [4, 4, 2, 4, 2])
-        self.assertEqual(with_row([("a", "along"), ("b", "along")], (("c", "against"), ("b", "against"), ("d", "along"))),
-                         [("a", "along"), ("c", "against"), ("d", "along")])
+        self.assertEqual([len(fewest_between(wiring, *pair)[0]) for pair in ("pu", "up", "nu", "qm", "rn")],
+                         [4, 4, 2, 4, 2])
+        flow, row = [("a", "along"), ("b", "along")], (("c", "against"), ("b", "against"), ("d", "along"))
+        self.assertEqual(with_row(flow, row), [("a", "along"), ("c", "against"), ("d", "along")])
 
     def test_no_part(self):
         for wiring, what in ((LOOSE, "current"), ((), "current"), ((), "voltage"), (SIDE_BY_SIDE, "voltage"),
