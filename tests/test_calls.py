@@ -5,13 +5,17 @@ import inspect
 import unittest
 
 from sameloops import alike as alike_file
+from sameloops import bench as bench_file
+from sameloops import drawn as drawn_file
 from sameloops import forms as forms_file
+from sameloops import posts as posts_file
 from sameloops import rings as rings_file
 from sameloops import settle as settle_file
+from sameloops import switches as switches_file
 from sameloops import turns as turns_file
 from sameloops import wirings as wirings_file
 from sameloops.rings import Stream
-from tests.support import (EIGHT, GATE, GROUPS, HOUSE, LOOP, NESTED, ONE, OTHER, SQUARE, THIRD, TURNED_SQUARE,
+from tests.support import (EIGHT, GATE, GROUPS, HOUSE, LOOP, LOOSE, NESTED, ONE, OTHER, SQUARE, THIRD, TURNED_SQUARE,
                            holds_list, listed)
 
 STREAM = (3, 3, 1, 5, 0, -2)
@@ -113,15 +117,78 @@ SETTLE = {
     "shows_one_wrong": (KNOWN, [(LOOP, "current", ("a", "b")), (LOOP, "voltage", ("a",))], bool),
     "names_one_wrong": (KNOWN, [(LOOP, "current", ("a", "b", "c")), (LOOP, "voltage", ("a",))], bool),
 }
+RULES = (("a", ("resistor", 1)), ("b", ("resistor", 2)), ("c", ("resistor", 1)), ("d", ("battery", -6)),
+         ("e", ("line", 1, 2, 3)))
+FREE = tuple([(part, ("any",)) for part in "abcde"])
+STATE = tuple([(part, (1, 2), (0, 1)) for part in "abc"])
+BENCH = {
+    "is_rule_row": (("wiring", "thing"), [(ONE, RULES), (LOOP, RULES)], bool),
+    "is_state_row": (("wiring", "thing"), [(LOOP, STATE), (ONE, STATE)], bool),
+    "is_state": (("wiring", "rules", "rows"), [(LOOP, FREE[:3], STATE), (LOOP, RULES[:3], STATE)], bool),
+    "some_state": (("wiring", "rules"), [(ONE, RULES), (ONE, FREE), ((), ())], tuple),
+    "bench": (("wiring", "rules"), [(ONE, RULES), (ONE, FREE), ((), ())], tuple),
+    "freedom": (("wiring", "rules"), [(ONE, RULES), (ONE, FREE), ((), ())], int),
+    "same_states": ((*BOTH, "rules"), [(ONE, OTHER, RULES), (ONE, THIRD, RULES)], bool),
+    "seen": (("wiring", "rules", "part"), [(ONE, RULES, "b"), (ONE, FREE, "b")], tuple),
+    "power": (("rows",), [(STATE,), ((),)], tuple),
+    "cross": (("rows", "others"), [(STATE, STATE), ((), ())], tuple),
+    "cross_states": (BOTH, [(ONE, THIRD), (THIRD, OTHER)], tuple),
+    "possible_states": (("wiring", "tables"), [(LOOP, tuple([(part, ((1, 0), (0, 0))) for part in "abc"])), ((), ())],
+                        tuple),
+}
+UNIT = (LOOP, ("n", "k"))
+SPARE = (tuple([("x" + part, start, end) for part, start, end in LOOP]), ("k", "z"))
+POSTS = {
+    "is_unit": (("thing",), [(UNIT,), (LOOP,)], bool),
+    "unit_of": (("wiring", "names"), [(HOUSE, ("a", "b")), (HOUSE, ())], tuple),
+    "put_into": (("unit", "surrounding"), [(UNIT, (("x", "n", "y"),)), (((), ()), HOUSE)], tuple),
+    "in_place": (("wiring", "unit"), [(HOUSE, ((("b", "k", "q"), ("e", "q", "m")), ("m", "k"))), (HOUSE, ((), ()))],
+                 tuple),
+    "turned_about": (("unit",), [(UNIT,), (SPARE,)], tuple),
+    "post_table": (("unit",), [(UNIT,), (SPARE,), (((), ()),)], tuple),
+    "stand_for": (("unit", "other"), [(UNIT, UNIT), (UNIT, (LOOP, ("n", "z")))], bool),
+    "foil": (("unit", "other"), [(UNIT, (LOOP, ("n", "z"))), (UNIT, (LOOSE, ("n", "z")))], tuple),
+    "joined_units": (("unit", "other", "pairs"), [(UNIT, SPARE, ((1, 0),)), (UNIT, SPARE, ())], tuple),
+}
+SWITCHES = {
+    "set_to": (("wiring", "switches", "closed"), [(HOUSE, ("b", "c"), ("c",)), (HOUSE, (), ())], tuple),
+    "lit": (("wiring", "source", "lamp"), [(HOUSE, "a", "b"), (HOUSE, "d", "e")], str),
+    "lit_by": (("wiring", "source", "lamp"), [(GATE, "a", "e"), (HOUSE, "d", "e")], list),
+    "lights": (("wiring", "switches", "source", "lamp"), [(HOUSE, ("b", "c"), "a", "f"), (HOUSE, (), "d", "e")], list),
+    "idle": (("wiring", "switches"), [(HOUSE, ("c", "d", "e")), (HOUSE, ())], tuple),
+    "parting_setting": (("wiring", "other", "switches"), [(LOOP, LOOSE, ("a", "b")), (LOOP, LOOSE, ())], tuple),
+    "parting_deeds": (("wiring", "other"), [(LOOP, LOOSE), (ONE, THIRD)], tuple),
+}
+LOOKS = (LOOP, LOOSE)
+NAMES = ("a", "b", "c", "d", "e", "f")
+DRAWN = {
+    "from_rings": (("parts", "rings"), [(NAMES, tuple(rings_file.rings(HOUSE))), ((), ())], tuple),
+    "from_cuts": (("parts", "cuts"), [(NAMES, tuple(rings_file.cuts(HOUSE))), ((), ())], tuple),
+    "counterpart": (("wiring",), [(HOUSE,), ((),)], tuple),
+    "from_sets": (("parts", "sets"), [(("a", "b", "c"), (("a", "b"),)), ((), ())], tuple),
+    "burns": (("wiring", "closed", "part"), [(HOUSE, ("a", "b"), "c"), (HOUSE, (), "c")], bool),
+    "told_back": (("parts", "lights"), [(NAMES, lambda closed, part: drawn_file.burns(HOUSE, closed, part))], tuple),
+    "parting_look": (("wiring", "other"), [LOOKS, LOOKS[::-1]], tuple),
+}
 # Those that return None for these arguments.
 NONE = (("unlike", (ONE, OTHER)), ("unlike_cut", (ONE, OTHER)), ("least_unlike", (ONE, OTHER)),
         ("turns_to", (ONE, THIRD)), ("sum_for", (HOUSE, "current", ("a",), "f")),
         ("unsettled", (HOUSE, "voltage", (), "d")),
         ("equal", (HOUSE, "current", "c", "f")), ("spare", (HOUSE[3:4], "voltage", ("d",))),
         ("blinding", (HOUSE[4:5], "current", ())), ("completed", (HOUSE, "current", ("a", "b"), (3, 4))),
-        ("contradiction", (HOUSE, "current", ("a", "b"), (3, 3))))
+        ("contradiction", (HOUSE, "current", ("a", "b"), (3, 3))),
+        ("some_state", (LOOP, (("a", ("source", 1)), ("b", ("open",)), ("c", ("any",))))),
+        ("bench", (LOOP, (("a", ("source", 1)), ("b", ("open",)), ("c", ("any",))))),
+        ("freedom", (LOOP, (("a", ("source", 1)), ("b", ("open",)), ("c", ("any",))))),
+        ("cross_states", (ONE, OTHER)), ("foil", (UNIT, UNIT)), ("parting_setting", (ONE, OTHER, ("a",))),
+        ("parting_deeds", (ONE, OTHER)), ("from_rings", (("a",), ((("a", "along"),), (("a", "along"),)))),
+        ("from_cuts", (("a", "b"), ((("a", "along"), ("b", "along")), (("a", "along"),)))),
+        ("from_sets", (("a", "b"), (("a", "b"), ("a",)))), ("parting_look", (ONE, OTHER)),
+        ("counterpart", (tuple([(one + other, one, other) for one in "abc" for other in "uvw"]),)))
 ROWS = [(file, name, *row) for file, table in ((wirings_file, WIRINGS), (rings_file, RINGS), (alike_file, ALIKE),
-                                               (turns_file, TURNS), (forms_file, FORMS), (settle_file, SETTLE))
+                                               (turns_file, TURNS), (forms_file, FORMS), (settle_file, SETTLE),
+                                               (bench_file, BENCH), (posts_file, POSTS), (switches_file, SWITCHES),
+                                               (drawn_file, DRAWN))
         for name, row in table.items()]
 METHODS = {"amounts": (), "at": ("part",), "split": (), "__init__": ("wiring", "amounts"), "__add__": None,
            "__sub__": None, "__neg__": (), "__mul__": None, "__len__": (), "__eq__": None}
@@ -203,6 +270,12 @@ class CallsTest(unittest.TestCase):
                          (True, False))
         self.assertEqual((settle_file.is_sum(listed(HOUSE), "current", "e", ()),
                           settle_file.is_sum(listed(HOUSE), "current", "e", [])), (True, False))
+
+    def test_rules_and_units_that_are_lists_stay_lists(self):
+        self.assertEqual((bench_file.is_rule_row(listed(ONE), RULES), bench_file.is_rule_row(ONE, listed(RULES))),
+                         (True, False))
+        self.assertEqual((bench_file.is_state_row(listed(LOOP), STATE), bench_file.is_state_row(LOOP, list(STATE))),
+                         (True, False))
 
     def test_none(self):
         for name, arguments in NONE:
