@@ -6,15 +6,21 @@ import unittest
 
 from sameloops import alike as alike_file
 from sameloops import bench as bench_file
+from sameloops import desk as desk_file
 from sameloops import drawn as drawn_file
 from sameloops import forms as forms_file
+from sameloops import nests as nests_file
 from sameloops import posts as posts_file
 from sameloops import rings as rings_file
 from sameloops import settle as settle_file
 from sameloops import switches as switches_file
+from sameloops import texts as texts_file
 from sameloops import turns as turns_file
 from sameloops import wirings as wirings_file
+from sameloops.board import Board
+from sameloops.nests import Nest
 from sameloops.rings import Stream
+from tests.sheets import PAIRS, SHEET
 from tests.support import (EIGHT, GATE, GROUPS, HOUSE, LOOP, LOOSE, NESTED, ONE, OTHER, SQUARE, THIRD, TURNED_SQUARE,
                            holds_list, listed)
 
@@ -170,6 +176,22 @@ DRAWN = {
     "told_back": (("parts", "lights"), [(NAMES, lambda closed, part: drawn_file.burns(HOUSE, closed, part))], tuple),
     "parting_look": (("wiring", "other"), [LOOKS, LOOKS[::-1]], tuple),
 }
+TEXT = ("text",)
+TEXTS = {
+    "wiring_text": (("wiring",), [(HOUSE,), ((),)], str),
+    "signed_text": (("pairs",), [(RING,), ((),)], str),
+    "amounts_text": (("wiring", "amounts"), [(HOUSE, STREAM), ((), ())], str),
+    "names_text": (("names",), [(("a", "b"),), ((),)], str),
+    "unit_text": (("unit",), [(UNIT,), (((), ()),)], str),
+    "wiring_in": (TEXT, [("a n m\nb m k",), ("",)], tuple),
+    "signed_in": (("wiring", "text"), [(HOUSE, "+a -c"), ((), "")], tuple),
+    "amounts_in": (("wiring", "text"), [(LOOP, "a: 1\nb: 0\nc: -1"), ((), "")], tuple),
+    "names_in": (("wiring", "text"), [(HOUSE, "a c"), ((), "")], tuple),
+    "unit_in": (TEXT, [("posts: k\na k m",), ("posts:",)], tuple),
+    "netlist_in": (TEXT, [("join k m\na k m # n",), ("",)], tuple),
+}
+NESTS = {"Nest": (TEXT, [(PAIRS,), (SHEET,)], Nest)}
+DESK = {"answers": (TEXT, [(SHEET + "\n\nsize loop\nback\nset pair p a a",), (SHEET + "\n",)], list)}
 # Those that return None for these arguments.
 NONE = (("unlike", (ONE, OTHER)), ("unlike_cut", (ONE, OTHER)), ("least_unlike", (ONE, OTHER)),
         ("turns_to", (ONE, THIRD)), ("sum_for", (HOUSE, "current", ("a",), "f")),
@@ -188,10 +210,23 @@ NONE = (("unlike", (ONE, OTHER)), ("unlike_cut", (ONE, OTHER)), ("least_unlike",
 ROWS = [(file, name, *row) for file, table in ((wirings_file, WIRINGS), (rings_file, RINGS), (alike_file, ALIKE),
                                                (turns_file, TURNS), (forms_file, FORMS), (settle_file, SETTLE),
                                                (bench_file, BENCH), (posts_file, POSTS), (switches_file, SWITCHES),
-                                               (drawn_file, DRAWN))
+                                               (drawn_file, DRAWN), (nests_file, NESTS), (texts_file, TEXTS),
+                                               (desk_file, DESK))
         for name, row in table.items()]
-METHODS = {"amounts": (), "at": ("part",), "split": (), "__init__": ("wiring", "amounts"), "__add__": None,
-           "__sub__": None, "__neg__": (), "__mul__": None, "__len__": (), "__eq__": None}
+PATH = ("block", "path")
+# For each class the methods that stand in the class itself, with the names of their parameters.
+METHODS = {
+    Stream: {"__init__": ("wiring", "amounts"), "amounts": (), "at": ("part",), "split": (), "__add__": None,
+             "__sub__": None, "__neg__": (), "__mul__": None, "__len__": (), "__eq__": None},
+    Nest: {"__init__": TEXT, "text": (), "blocks": (), "__len__": (), "__contains__": None, "__eq__": None,
+           "unfolded": ("block",), "size": ("block",), "ends": PATH, "way": ("block",), "barrier": ("block",),
+           "least_ring": PATH, "least_cut": PATH, "row_mates": PATH, "bundle_mates": PATH,
+           "alike": ("block", "other"), "alike_pieces": ("block", "other"),
+           "changed": ("block", "part", "start", "end"), "swapped": ("block", "other")},
+    Board: {"__init__": ("wiring",), "wiring": (), "claim": ("note",), "notes": (), "put": ("part", "start", "end"),
+            "drop": ("part",), "bridge": ("part",), "flip": ("part",), "tie": ("node", "other"), "turn": ("names",),
+            "hang": ("unit",), "undo": (), "__len__": (), "before": ("times",), "kept": (), "copied": ()},
+}
 CALLS = [(getattr(file, name), words, arguments, kind) for file, name, words, rows, kind in ROWS for arguments in rows]
 
 
@@ -214,12 +249,17 @@ class CallsTest(unittest.TestCase):
                 self.assertEqual(found.__module__, file.__name__)
                 self.assertEqual(tuple(inspect.signature(found).parameters), words)
 
+    def test_the_class_that_compares_as_all_objects_do(self):
+        self.assertEqual((Board.__module__, tuple(inspect.signature(Board).parameters)),
+                         ("sameloops.board", ("wiring",)))
+
     def test_methods_stand_in_the_class_itself(self):
-        for name, words in METHODS.items():
-            with self.subTest(name):
-                self.assertIn(name, vars(Stream))
-                if words is not None:
-                    self.assertEqual(tuple(inspect.signature(vars(Stream)[name]).parameters)[1:], words)
+        for owner, methods in METHODS.items():
+            for name, words in methods.items():
+                with self.subTest(owner.__name__, name=name):
+                    self.assertIn(name, vars(owner))
+                    if words is not None:
+                        self.assertEqual(tuple(inspect.signature(vars(owner)[name]).parameters)[1:], words)
 
     def test_kinds_of_values(self):
         for call, _, arguments, kind in CALLS:
