@@ -54,13 +54,44 @@ def linked(names, sets):
     return gathered(merged(names, pairs))
 
 
-def built_block(names, sets, are_cuts, word):
-    """A WIRING of one block, as built tells, whose nodes begin with the word; None if there is none."""
-    base = base_of([set_number(names, members) for members in sets if members[0] in names])
-    cut_base = base if are_cuts else crossing(base, len(names))
+def drawn_from(names, cut_base, word):
+    """A WIRING of one block whose cuts are sums of the base; None if there is none."""
     if len(names) == 1:
         return ((names[0], word + "0", word + str(len(cut_base))),)
     return block_drawn(names, cut_base, word)
+
+
+def rows_of(names, ring_base):
+    """The parts that are on just the same rings, together: in a WIRING they can stand behind one another."""
+    found = {}
+    for at, name in enumerate(names):
+        found.setdefault(tuple([number >> at & 1 for number in ring_base]), []).append(name)
+    return list(found.values())
+
+
+def stretched(wiring, rows, word):
+    """The WIRING with all parts of each row behind one another in the place of the part that stands for it."""
+    found = []
+    for (_, start, end), row in zip(wiring, rows):
+        here = start
+        for name in row[:-1]:
+            there = word + "m" + str(len(found))
+            found.append((name, here, there))
+            here = there
+        found.append((row[len(row) - 1], here, end))
+    return found
+
+
+def built_block(names, sets, are_cuts, word):
+    """A WIRING of one block, as built tells, whose nodes begin with the word; None if there is none."""
+    base = base_of([set_number(names, members) for members in sets if members[0] in names])
+    ring_base = crossing(base, len(names)) if are_cuts else base
+    # The order of a row is free: with one part in its place there is much less to go through.
+    rows = rows_of(names, ring_base)
+    firsts = [row[0] for row in rows]
+    numbers = [set_number(firsts, [names[at] for at in places_in(number)]) for number in ring_base]
+    wiring = drawn_from(firsts, crossing(base_of(numbers), len(firsts)), word)
+    return None if wiring is None else stretched(wiring, rows, word)
 
 
 def built(names, sets, are_cuts):

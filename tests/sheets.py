@@ -81,7 +81,7 @@ def fewest(found, part, spare=0):
     return min([len(pairs) - spare for pairs in found if part in dict(pairs)], default=None)
 
 
-def mates(found, part):
+def in_pairs(found, part):
     """How many parts are with this one in pairs, itself counted."""
     return 1 + len([pairs for pairs in found if len(pairs) == 2 and part in dict(pairs)])
 

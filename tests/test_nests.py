@@ -6,8 +6,10 @@ from sameloops.alike import alike
 from sameloops.errors import BadLine, NoBlock, NoPart
 from sameloops.nests import Nest
 from sameloops.rings import cuts, rings
-from sameloops.wirings import forest, is_wiring, opened
-from tests.sheets import PAIRS, SHEET, any_nest, fewest, likely_nest, mates, slow_barrier, slow_way, with_line
+from sameloops.settle import mates
+from sameloops.sums import fewest_between
+from sameloops.wirings import forest, is_wiring, opened, rows_from
+from tests.sheets import PAIRS, SHEET, any_nest, fewest, in_pairs, likely_nest, slow_barrier, slow_way, with_line
 
 HUGE = 10 ** 9
 # Three deep, and so many copies at each depth.
@@ -24,6 +26,11 @@ def numbers_wrong(text):
     except BadLine as error:
         return error.number
     return None
+
+
+def mates_of_all(wiring, what):
+    """For each part that has mates how many they are, itself counted."""
+    return {part: len(names) for names in mates(wiring, what) for part in names}
 
 
 class ExamplesTest(unittest.TestCase):
@@ -146,8 +153,26 @@ class SmallTest(unittest.TestCase):
             told = (nest.ends(block, part), nest.least_ring(block, part), nest.least_cut(block, part),
                     nest.row_mates(block, part), nest.bundle_mates(block, part))
             self.assertEqual(told, ((start, end), fewest(all_rings, part), fewest(all_cuts, part),
-                                    mates(all_cuts, part), mates(all_rings, part)), (nest.text(), block, part))
+                                    in_pairs(all_cuts, part), in_pairs(all_rings, part)), (nest.text(), block, part))
         return wiring
+
+    def test_greater_against_what_is_unfolded(self):
+        many = 0
+        for seed in range(500, 1100):
+            nest = Nest(any_nest(seed))
+            for block in [name for name in nest.blocks() if 10 <= nest.size(name)[0] <= 40]:
+                wiring = nest.unfolded(block)
+                tables = mates_of_all(wiring, "current"), mates_of_all(wiring, "voltage")
+                self.assertEqual(nest.size(block)[1], len(wiring) - len(forest(wiring)))
+                for part, start, end in wiring[::5]:
+                    row = rows_from(opened(wiring, (part,)), end).get(start)
+                    cut = None if start == end else len(fewest_between(wiring, start, end)[0])
+                    told = (nest.ends(block, part), nest.least_ring(block, part), nest.least_cut(block, part),
+                            nest.row_mates(block, part), nest.bundle_mates(block, part))
+                    self.assertEqual(told, ((start, end), None if row is None else len(row) + 1, cut,
+                                            tables[0].get(part, 1), tables[1].get(part, 1)), (nest.text(), block, part))
+                    many += 1
+        self.assertGreater(many, 500)
 
     def test_alike_against_what_is_unfolded(self):
         found = []
@@ -369,6 +394,17 @@ class ChangedTest(unittest.TestCase):
         self.assertEqual((both.alike_pieces("net", "again"), both.alike("net", "again")), (True, True))
         self.assertFalse(Nest(text + "\nblock again a b\npart r a b\nuse x sure a c\nbundle y pair 1000 c b")
                          .alike("net", "again"))
+
+    def test_by_names(self):
+        nest = Nest(text=PAIRS)
+        for name in ("unfolded", "size", "way", "barrier"):
+            self.assertEqual(getattr(nest, name)(block="pair"), getattr(nest, name)("pair"))
+        for name in ("ends", "least_ring", "least_cut", "row_mates", "bundle_mates"):
+            self.assertEqual(getattr(nest, name)(block="far", path="z.3.y.7.q"),
+                             getattr(nest, name)("far", "z.3.y.7.q"))
+        for name in ("alike", "alike_pieces", "swapped"):
+            self.assertEqual(getattr(nest, name)(block="pair", other="turned"), getattr(nest, name)("pair", "turned"))
+        self.assertEqual(nest.changed(block="pair", part="p", start="a", end="b"), nest.changed("pair", "p", "a", "b"))
 
     def test_what_is_returned_is_plain(self):
         nest = Nest(PAIRS)

@@ -223,6 +223,30 @@ class TableTest(unittest.TestCase):
         self.assertFalse(alike(put_into((ROW, ("p", "q")), (("x", "p", "q"),)),
                                put_into((BACK, ("p", "q")), (("x", "p", "q"),))))
 
+    def named(self, unit):
+        """The UNIT with the same NAMEs for the posts of all units, and other ones for its inner nodes."""
+        wiring, posts = unit
+        names = {post: f"post{at}" for at, post in enumerate(posts)}
+        return (tuple([(part, names.get(start, start + ".in"), names.get(end, end + ".in"))
+                       for part, start, end in wiring]), tuple(names.values()))
+
+    def test_in_all_small_surroundings(self):
+        units = [self.named(unit) for wiring in all_wirings(2) for unit in units_of(wiring, 2)]
+        units += [self.named(unit) for wiring in all_wirings(3)[::20] for unit in units_of(wiring, 3)[::4]]
+        around = ("post0", "post1", "post2", "out")
+        steps = [(start, end) for start in around for end in around]
+        surroundings = [()] + [(("x", *step),) for step in steps] + [
+            (("x", *one), ("y", *other)) for one in steps for other in steps[::3]]
+        found = set()
+        for at, one in enumerate(units):
+            for other in units[at % 29::29]:
+                if parts(one[0]) == parts(other[0]) and len(one[1]) == len(other[1]):
+                    fitting = [wiring for wiring in surroundings if set(node_names(wiring)) <= {*one[1], "out"}]
+                    same = [alike(put_into(one, wiring), put_into(other, wiring)) for wiring in fitting]
+                    self.assertIs(stand_for(one, other), all(same))
+                    found.add(all(same))
+        self.assertEqual(found, {True, False})
+
     def test_errors_in_order(self):
         for call in (stand_for, foil):
             for one, other, part in (((ROW, ()), (ROW[:2], ("p",)), "c"), ((ROW[1:], ("p",)), (ROW, ("p",)), "a"),
