@@ -11,6 +11,8 @@ from sameloops.wirings import check_parts, check_same_parts, is_number, parts
 BOTH = ("current", "voltage")
 # How many numbers stand behind the word of a RULE.
 NUMBERS = {"resistor": 1, "battery": 1, "source": 1, "open": 0, "short": 0, "any": 0, "line": 3}
+# Those without numbers, written as a line.
+PLAIN = {"open": (1, 0, 0), "short": (0, 1, 0), "any": (0, 0, 0)}
 
 
 def is_rule(thing):
@@ -72,7 +74,7 @@ def line_of(rule):
         return (0, 1, rule[1])
     if word == "source":
         return (1, 0, rule[1])
-    return {"open": (1, 0, 0), "short": (0, 1, 0), "any": (0, 0, 0)}[word]
+    return PLAIN[word]
 
 
 def rule_equations(rules):

@@ -7,6 +7,9 @@ from sameloops.errors import NoFit, NoSwitch
 from sameloops.rings import oriented, rings, simple_rows
 from sameloops.wirings import blocks, bridged, check_parts, check_same_parts, forest, only, opened, parts, without
 
+# By how many directions the source and the lamp have to one another on rings.
+WORDS = ("never", "always", "sometimes")
+
 
 def set_to(wiring, switches, closed):
     """The WIRING in which the closed switches are bridged and the others are opened."""
@@ -35,7 +38,7 @@ def lit_by(wiring, source, lamp):
 
 def lit(wiring, source, lamp):
     """Whether there is a current at the lamp for all resistances, "always", for some or for none."""
-    return ("never", "always", "sometimes")[len(lit_by(wiring, source, lamp))]
+    return WORDS[len(lit_by(wiring, source, lamp))]
 
 
 def settings_of(names, many):
