@@ -4,7 +4,7 @@ from itertools import combinations
 
 from sameloops.errors import NoRing
 from sameloops.rings import cut_over, is_cut, is_ring, ring_table, rings
-from sameloops.wirings import bridged, check_same_parts, forest, is_number, opened, parts
+from sameloops.wirings import as_tuples, bridged, check_same_parts, forest, is_number, opened, parts
 
 
 def alike(one, other):
@@ -69,6 +69,8 @@ def is_unlike_cut(one, other, thing):
 
 def test_of(wiring, ring):
     """The RULE ROW with a source at the least part of the RING, resistors at its others, nothing elsewhere."""
+    # is_ring judges a thing, in which a list is no tuple; in this argument it may stand for one.
+    ring = as_tuples(ring)
     if not is_ring(wiring, ring):
         raise NoRing()
     rules = {part: ("resistor", 1) for part, _ in ring}

@@ -6,12 +6,7 @@ from sameloops.posts import in_place, is_unit
 from sameloops.rings import is_cut, is_ring
 from sameloops.switches import lit
 from sameloops.turns import turned
-from sameloops.wirings import bridged, is_wiring, joined_nodes, opened, parts, reversed_parts
-
-
-def as_tuples(thing):
-    """The thing with tuples for lists, at any depth."""
-    return tuple([as_tuples(item) for item in thing]) if isinstance(thing, (list, tuple)) else thing
+from sameloops.wirings import as_tuples, bridged, is_wiring, joined_nodes, opened, parts, reversed_parts
 
 
 def is_lit(wiring, source, lamp, word):

@@ -6,6 +6,11 @@ LETTERS = "abcdefghijklmnopqrstuvwxyz"
 SIGNS = "abcdefghijklmnopqrstuvwxyz0123456789."
 
 
+def as_tuples(value):
+    """The value with tuples for lists, at any depth."""
+    return tuple([as_tuples(item) for item in value]) if isinstance(value, (list, tuple)) else value
+
+
 def is_number(thing):
     """Whether thing is an int that is not a bool."""
     return type(thing) is int

@@ -140,6 +140,28 @@ def listed(thing):
     return [listed(item) for item in thing] if isinstance(thing, (tuple, list)) else thing
 
 
+def one_listed(thing):
+    """All ways in which just one tuple in the thing, or the thing itself, is a list."""
+    if not isinstance(thing, tuple):
+        return []
+    inner = [thing[:at] + (told,) + thing[at + 1:] for at, item in enumerate(thing) for told in one_listed(item)]
+    return [list(thing)] + inner
+
+
+def one_left(thing):
+    """All ways in which just one tuple in the thing, or the thing itself, is no list but all others are."""
+    if not isinstance(thing, tuple):
+        return []
+    lists = listed(thing)
+    inner = [lists[:at] + [told] + lists[at + 1:] for at, item in enumerate(thing) for told in one_left(item)]
+    return [tuple(lists)] + inner
+
+
+def half_listed(thing):
+    """Some ways in which lists stand for tuples in the thing: one, all, all but one."""
+    return one_listed(thing) + one_left(thing) + [listed(thing)]
+
+
 def holds_list(thing):
     """Whether a list stands in it, at any depth."""
     return isinstance(thing, list) or isinstance(thing, tuple) and any(holds_list(item) for item in thing)

@@ -11,8 +11,8 @@ from sameloops.settle import completed, settles_all
 from sameloops.turns import turned
 from sameloops.wirings import bridged, opened, parts, reversed_parts
 from tests.support import (EIGHT, FIVE, GATE, GATES, GROUPS, HOUSE, LOOP, LOOSE, NESTED, ONE, OTHER, ROUND,
-                           SIDE_BY_SIDE, SQUARE, THIRD, TURNED_SQUARE, WHEEL, WIRINGS, deep, listed, slow_cuts,
-                           slow_rings, subsets)
+                           SIDE_BY_SIDE, SQUARE, THIRD, TURNED_SQUARE, WHEEL, WIRINGS, deep, half_listed, holds_list,
+                           listed, slow_cuts, slow_rings, subsets)
 
 LOOPS = (("a", "k", "k"), ("b", "l", "m"))
 PAIRED = (ONE, OTHER, THIRD, reversed_parts(ONE, ("a",)), reversed_parts(THIRD, ("b", "e")))
@@ -260,12 +260,25 @@ class TestOfTest(unittest.TestCase):
                   ("b", "e"), (("b", 1), ("e", -1)), (("b", "along"), ("z", "against")), [[]], [None],
                   (("b", True), ("e", False)), deep(0)]
         for thing in things:
-            with self.subTest(thing=thing), self.assertRaises(NoRing):
-                test_of(ONE, thing)
+            for told in [thing, *half_listed(thing)]:
+                with self.subTest(thing=told), self.assertRaises(NoRing):
+                    test_of(ONE, told)
         with self.assertRaises(NoRing):
             test_of((), ring)
         with self.assertRaises(NoRing):
             test_of(THIRD, ring)
+
+    def test_ring_with_lists(self):
+        for wiring in WIRINGS + (ONE, NESTED):
+            for ring in rings(wiring):
+                rules = test_of(wiring, ring)
+                for told in half_listed(ring):
+                    kept = repr(told)
+                    with self.subTest(ring=kept):
+                        self.assertEqual(test_of(wiring, told), rules)
+                        self.assertEqual(test_of(ring=told, wiring=listed(wiring)), rules)
+                        self.assertFalse(holds_list(test_of(wiring, told)))
+                        self.assertEqual((repr(told), is_ring(wiring, told)), (kept, False))
 
 
 class GroupedTest(unittest.TestCase):

@@ -22,7 +22,7 @@ from sameloops.nests import Nest
 from sameloops.rings import Stream
 from tests.sheets import PAIRS, SHEET
 from tests.support import (EIGHT, GATE, GROUPS, HOUSE, LOOP, LOOSE, NESTED, ONE, OTHER, SQUARE, THIRD, TURNED_SQUARE,
-                           holds_list, listed)
+                           half_listed, holds_list, listed)
 
 STREAM = (3, 3, 1, 5, 0, -2)
 DROPS = (4, -1, -3, 0, 2, 3)
@@ -236,8 +236,17 @@ def told_lists(told):
 
 
 def with_lists(words, arguments):
-    """The arguments with lists for tuples, but for any thing (such is the ring of test_of), taken as it is."""
-    return [value if word in ("thing", "ring") else listed(value) for word, value in zip(words, arguments)]
+    """The arguments with lists for tuples, but for any thing, which is taken as it is."""
+    return [value if word == "thing" else listed(value) for word, value in zip(words, arguments)]
+
+
+def each_with_lists(words, arguments):
+    """The arguments again and again, one of them each time with lists for some or for all of its tuples."""
+    found = []
+    for at, (word, value) in enumerate(zip(words, arguments)):
+        if word != "thing":
+            found.extend([[*arguments[:at], told, *arguments[at + 1:]] for told in half_listed(value)])
+    return found
 
 
 class CallsTest(unittest.TestCase):
@@ -279,6 +288,41 @@ class CallsTest(unittest.TestCase):
                 told = call(*with_lists(words, arguments))
                 self.assertEqual(told, call(*arguments))
                 self.assertFalse(told_lists(told))
+
+    def test_lists_at_any_depth(self):
+        for call, words, arguments, kind in CALLS:
+            wanted = call(*arguments)
+            for given in each_with_lists(words, arguments):
+                with self.subTest(call.__name__, given=given):
+                    kept = copy.deepcopy(given)
+                    told = call(*given)
+                    self.assertEqual(told, wanted)
+                    self.assertIs(type(told), kind)
+                    self.assertFalse(told_lists(told))
+                    self.assertEqual(given, kept)
+
+    def test_lists_at_any_depth_in_objects(self):
+        for wiring in half_listed(HOUSE):
+            self.assertEqual(Stream(wiring, STREAM) + Stream(HOUSE, list(STREAM)), Stream(HOUSE, STREAM) * 2)
+            self.assertEqual((Board(wiring).wiring(), type(Board(wiring).wiring()[0])), (HOUSE, tuple))
+        notes = (("ring", RING), ("cut", CUT), ("alike", HOUSE), ("stand", (HOUSE[2:3], ("k", "n"))))
+        for note in notes:
+            for given in half_listed(note):
+                board = Board(HOUSE)
+                board.claim(given)
+                self.assertEqual(board.notes(), [note])
+                self.assertFalse(holds_list(board.notes()[0]))
+
+    def test_lists_at_any_depth_in_deeds(self):
+        unit = ((("c", "k", "q"), ("f", "n", "q")), ("k", "n"))
+        for deed, value in (("turn", ("c", "f")), ("turn", ("a", "b")), ("hang", unit)):
+            other = Board(HOUSE)
+            getattr(other, deed)(value)
+            for given in half_listed(value):
+                board = Board(HOUSE)
+                getattr(board, deed)(given)
+                self.assertEqual(board.wiring(), other.wiring())
+                self.assertFalse(holds_list(board.wiring()))
 
     def test_arguments_stay_as_they_are(self):
         for call, words, arguments, _ in CALLS:
